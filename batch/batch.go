@@ -4,10 +4,21 @@ package batch
 import (
 	"batch/api"
 	"batch/head"
+	"batch/link"
+	"batch/value"
 )
 
-// System is a pool of nodes with its jobs.
-type System struct{}
+// System is a pool of nodes with its jobs. It keeps the groups of the batches
+// taken, because later ones may name them.
+type System struct {
+	nodes  int
+	groups []link.Group
+	jobs   []job
+}
+
+type job struct {
+	code string
+}
 
 // Read reads a batch (P3, P4).
 func Read(text string) ([]api.Job, api.Errno, int) {
@@ -23,19 +34,90 @@ func Read(text string) ([]api.Job, api.Errno, int) {
 }
 
 // Exec runs a code over the states of jobs (P5).
-func Exec(code string, states []int) (int, api.Errno) { return 0, api.OK }
+func Exec(code string, states []int) (int, api.Errno) {
+	return value.Run(code, states)
+}
 
 // New makes a system (P6).
-func New(nodes int) (*System, api.Errno) { return nil, api.OK }
+func New(nodes int) (*System, api.Errno) {
+	if nodes < 1 || nodes > api.MaxNodes {
+		return nil, api.ErrArg
+	}
+	return &System{nodes: nodes}, api.OK
+}
 
 // Clock tells the time, how many nodes are free, and how many jobs there are (P6).
-func (s *System) Clock() (int, int, int) { return 0, 0, 0 }
+func (s *System) Clock() (int, int, int) {
+	return 0, s.nodes, len(s.jobs)
+}
 
 // Submit takes a batch (P7, P8).
-func (s *System) Submit(text string) api.Answer { return api.Answer{} }
+func (s *System) Submit(text string) api.Answer {
+	heads, err, at := head.Read(text)
+	if err != api.OK {
+		return api.Answer{Err: err, At: at}
+	}
+	at, found := tooWide(heads, s.nodes)
+	if found {
+		return api.Answer{Err: api.ErrNodes, At: at}
+	}
+	first := len(s.jobs)
+	own := link.Groups(heads, first)
+	at, found = link.Missing(s.groups, own, heads)
+	if found {
+		return api.Answer{Err: api.ErrRef, At: at}
+	}
+	ring := link.Ring(own, heads)
+	if len(ring) > 0 {
+		return api.Answer{Err: api.ErrCycle, Cycle: ring}
+	}
+	count := countJobs(own)
+	if first+count > api.MaxJobs {
+		return api.Answer{Err: api.ErrFull}
+	}
+	s.take(own, heads)
+	return api.Answer{First: first, Count: count}
+}
+
+// tooWide tells the place of the first number of nodes that is above nodes.
+func tooWide(heads []head.Head, nodes int) (int, bool) {
+	for _, h := range heads {
+		if h.Job.Nodes > nodes {
+			return h.NodesAt, true
+		}
+	}
+	return 0, false
+}
+
+func countJobs(groups []link.Group) int {
+	count := 0
+	for _, g := range groups {
+		count += g.Count
+	}
+	return count
+}
+
+// take adds the jobs of a batch. Its groups come last, because to its own jobs
+// they are not yet those of a batch before.
+func (s *System) take(own []link.Group, heads []head.Head) {
+	for i, h := range heads {
+		code := link.Code(s.groups, own, h)
+		for k := 0; k < own[i].Count; k++ {
+			s.jobs = append(s.jobs, job{code: code})
+		}
+	}
+	for _, g := range own {
+		s.groups = append(s.groups, g)
+	}
+}
 
 // Code tells by which code a job is decided (P9).
-func (s *System) Code(id int) (string, api.Errno) { return "", api.OK }
+func (s *System) Code(id int) (string, api.Errno) {
+	if id < 0 || id >= len(s.jobs) {
+		return "", api.ErrJob
+	}
+	return s.jobs[id].code, api.OK
+}
 
 // Status tells how a job is (P10).
 func (s *System) Status(id int) (api.Status, api.Errno) { return api.Status{}, api.OK }

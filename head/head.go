@@ -3,11 +3,13 @@ package head
 
 import "batch/api"
 
-// Head is what a head says, with the places in the text at which an error of
-// it is told: the first bytes of its NAME, of its two numbers, and of the
-// lower number of its array.
+// Head is what a head says, with the steps of its WANT (none, if it has no
+// WANT), and with the places in the text at which an error of it is told: the
+// first bytes of its NAME, of its two numbers, and of the lower number of its
+// array.
 type Head struct {
 	Job     api.Job
+	Want    []Step
 	NameAt  int
 	NodesAt int
 	TimeAt  int
@@ -97,8 +99,10 @@ func (r *reader) options(h *Head) {
 		r.word("a")
 	}
 	r.word("fter=")
+	r.steps = nil
 	after := r.want(0)
 	h.Job.After = after.text
+	h.Want = r.steps
 }
 
 func (r *reader) array(h *Head) {

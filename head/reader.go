@@ -5,11 +5,13 @@ import "batch/api"
 // reader goes through a text from the left. Each byte that it passes leaves a
 // beginning with which some batch also begins; so at the first byte that it
 // cannot pass, at is the place of the error. Having failed it passes nothing
-// more, which spares its callers from asking after each step.
+// more, which spares its callers from asking after each step. Of the WANT that
+// it is in it gathers the steps.
 type reader struct {
 	text   string
 	at     int
 	failed bool
+	steps  []Step
 }
 
 // peek tells the next byte; 0, which no head has, if there is none to pass.

@@ -10,11 +10,38 @@ type plain struct {
 	terms int
 }
 
+// Step is one step of working out a WANT on a stack of values: a FACTOR lays
+// its value there, OpAnd and OpOr join the last two. OpOk, OpAny and OpNot
+// have a REF; OpOver stands for single, which has none. Two parts are joined
+// as soon as both are there, so the stack is only as high as brackets are deep.
+type Step struct {
+	Op  int
+	Ref Ref
+}
+
+// Ref is a REF, with the place of its first byte in the text.
+type Ref struct {
+	At       int
+	Name     string
+	Numbered bool
+	Number   int
+}
+
+// HasRef tells whether the step is a FACTOR with a REF.
+func (s Step) HasRef() bool {
+	return s.Op == api.OpOk || s.Op == api.OpAny || s.Op == api.OpNot
+}
+
+func (r *reader) lay(s Step) {
+	r.steps = append(r.steps, s)
+}
+
 // want passes a WANT that stands in depth pairs of brackets.
 func (r *reader) want(depth int) plain {
 	all := r.term(depth)
 	for r.skip('|') {
 		next := r.term(depth)
+		r.lay(Step{Op: api.OpOr})
 		all.text += "|" + next.text
 		all.terms += next.terms
 	}
@@ -31,6 +58,7 @@ func (r *reader) term(depth int) plain {
 	text := asFactor(first)
 	for r.skip('&') {
 		next := r.factor(depth)
+		r.lay(Step{Op: api.OpAnd})
 		text += "&" + asFactor(next)
 	}
 	return plain{text, 1}
@@ -52,15 +80,16 @@ func (r *reader) factor(depth int) plain {
 		return r.brackets(depth)
 	case 's':
 		r.word("single")
+		r.lay(Step{Op: api.OpOver})
 	case 'o':
 		r.word("ok:")
-		r.ref()
+		r.ref(api.OpOk)
 	case 'a':
 		r.word("any:")
-		r.ref()
+		r.ref(api.OpAny)
 	case 'n':
 		r.word("not:")
-		r.ref()
+		r.ref(api.OpNot)
 	default:
 		r.failed = true
 	}
@@ -78,10 +107,14 @@ func (r *reader) brackets(depth int) plain {
 	return inner
 }
 
-func (r *reader) ref() {
-	r.name()
+func (r *reader) ref(op int) {
+	s := Step{Op: op}
+	s.Ref.At = r.at
+	s.Ref.Name = r.name()
 	if r.skip('[') {
-		r.number()
+		s.Ref.Numbered = true
+		s.Ref.Number = r.number()
 		r.word("]")
 	}
+	r.lay(s)
 }
