@@ -5,19 +5,15 @@ import (
 	"batch/api"
 	"batch/head"
 	"batch/link"
+	"batch/pool"
 	"batch/value"
 )
 
 // System is a pool of nodes with its jobs. It keeps the groups of the batches
 // taken, because later ones may name them.
 type System struct {
-	nodes  int
 	groups []link.Group
-	jobs   []job
-}
-
-type job struct {
-	code string
+	pool   pool.Pool
 }
 
 // Read reads a batch (P3, P4).
@@ -43,12 +39,12 @@ func New(nodes int) (*System, api.Errno) {
 	if nodes < 1 || nodes > api.MaxNodes {
 		return nil, api.ErrArg
 	}
-	return &System{nodes: nodes}, api.OK
+	return &System{pool: pool.New(nodes)}, api.OK
 }
 
 // Clock tells the time, how many nodes are free, and how many jobs there are (P6).
 func (s *System) Clock() (int, int, int) {
-	return 0, s.nodes, len(s.jobs)
+	return s.pool.Now(), s.pool.Free(), s.pool.Count()
 }
 
 // Submit takes a batch (P7, P8).
@@ -57,11 +53,11 @@ func (s *System) Submit(text string) api.Answer {
 	if err != api.OK {
 		return api.Answer{Err: err, At: at}
 	}
-	at, found := tooWide(heads, s.nodes)
+	at, found := tooWide(heads, s.pool.Nodes())
 	if found {
 		return api.Answer{Err: api.ErrNodes, At: at}
 	}
-	first := len(s.jobs)
+	first := s.pool.Count()
 	own := link.Groups(heads, first)
 	at, found = link.Missing(s.groups, own, heads)
 	if found {
@@ -76,6 +72,7 @@ func (s *System) Submit(text string) api.Answer {
 		return api.Answer{Err: api.ErrFull}
 	}
 	s.take(own, heads)
+	s.pool.Settle()
 	return api.Answer{First: first, Count: count}
 }
 
@@ -103,7 +100,7 @@ func (s *System) take(own []link.Group, heads []head.Head) {
 	for i, h := range heads {
 		code := link.Code(s.groups, own, h)
 		for k := 0; k < own[i].Count; k++ {
-			s.jobs = append(s.jobs, job{code: code})
+			s.pool.Add(code, h.Job.Nodes, h.Job.Time)
 		}
 	}
 	for _, g := range own {
@@ -113,20 +110,32 @@ func (s *System) take(own []link.Group, heads []head.Head) {
 
 // Code tells by which code a job is decided (P9).
 func (s *System) Code(id int) (string, api.Errno) {
-	if id < 0 || id >= len(s.jobs) {
-		return "", api.ErrJob
-	}
-	return s.jobs[id].code, api.OK
+	return s.pool.Code(id)
 }
 
 // Status tells how a job is (P10).
-func (s *System) Status(id int) (api.Status, api.Errno) { return api.Status{}, api.OK }
+func (s *System) Status(id int) (api.Status, api.Errno) {
+	return s.pool.Status(id)
+}
 
 // Queue tells which jobs are queued, in their order (P10).
-func (s *System) Queue() []int { return nil }
+func (s *System) Queue() []int {
+	return s.pool.Queue()
+}
 
 // Tick lets time go by (P12).
-func (s *System) Tick(n int) api.Errno { return api.OK }
+func (s *System) Tick(n int) api.Errno {
+	if n < 1 || n > api.MaxTicks {
+		return api.ErrArg
+	}
+	if s.pool.Now()+n > api.MaxNow {
+		return api.ErrTime
+	}
+	for i := 0; i < n; i++ {
+		s.pool.Pass()
+	}
+	return api.OK
+}
 
 // Finish ends a running job (P13).
 func (s *System) Finish(id int, ok bool) api.Errno { return api.OK }

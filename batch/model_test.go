@@ -25,6 +25,7 @@ type modelHead struct {
 	name    string
 	nodes   int
 	nodesAt int
+	time    int
 	array   bool
 	lo      int
 	ids     []int
@@ -33,7 +34,7 @@ type modelHead struct {
 }
 
 var (
-	headLine = regexp.MustCompile(`(?m)^#J ([a-z]+) nodes=(\d+) time=\d+(?: array=(\d+)-(\d+))?(?: after=(\S+))?$`)
+	headLine = regexp.MustCompile(`(?m)^#J ([a-z]+) nodes=(\d+) time=(\d+)(?: array=(\d+)-(\d+))?(?: after=(\S+))?$`)
 	leafIn   = regexp.MustCompile(`single|(ok|any|not):([a-z]+(?:\[\d+\])?)`)
 	inside   = regexp.MustCompile(`\(([TFU])\)`)
 	anded    = regexp.MustCompile(`[TFU]&[TFU]`)
@@ -51,13 +52,14 @@ func (m *model) heads(text string) []modelHead {
 			}
 			return text[at[2*k]:at[2*k+1]]
 		}
-		h := modelHead{name: part(1), nodesAt: at[4], want: part(5), wantAt: at[10]}
+		h := modelHead{name: part(1), nodesAt: at[4], want: part(6), wantAt: at[12]}
 		h.nodes, _ = strconv.Atoi(part(2))
+		h.time, _ = strconv.Atoi(part(3))
 		hi := 0
-		if part(3) != "" {
+		if part(4) != "" {
 			h.array = true
-			h.lo, _ = strconv.Atoi(part(3))
-			hi, _ = strconv.Atoi(part(4))
+			h.lo, _ = strconv.Atoi(part(4))
+			hi, _ = strconv.Atoi(part(5))
 		}
 		for range hi - h.lo + 1 {
 			h.ids = append(h.ids, next)
@@ -355,7 +357,7 @@ func randomBatch(rng *rand.Rand) string {
 		if rng.Intn(60) == 0 {
 			k = names[0]
 		}
-		line := fmt.Sprintf("#J %c nodes=%d time=1", 'a'+k, 1+min(rng.Intn(8), rng.Intn(8), rng.Intn(8)))
+		line := fmt.Sprintf("#J %c nodes=%d time=%d", 'a'+k, 1+min(rng.Intn(8), rng.Intn(8), rng.Intn(8)), 1+rng.Intn(api.MaxTime))
 		if rng.Intn(2) == 0 {
 			lo := rng.Intn(3)
 			line += fmt.Sprintf(" array=%d-%d", lo, lo+rng.Intn(3))
