@@ -138,7 +138,11 @@ func (s *System) Tick(n int) api.Errno {
 }
 
 // Finish ends a running job (P13).
-func (s *System) Finish(id int, ok bool) api.Errno { return api.OK }
+func (s *System) Finish(id int, ok bool) api.Errno {
+	return s.pool.Finish(id, ok)
+}
 
 // Cancel ends a job that has not ended (P13).
-func (s *System) Cancel(id int) api.Errno { return api.OK }
+func (s *System) Cancel(id int) api.Errno {
+	return s.pool.Cancel(id)
+}

@@ -17,7 +17,7 @@ type world struct {
 	now   int
 	jobs  []api.Status
 	queue []int
-	// told has the first start that was told of each job, -1 if none was
+	// told has the last start that was told of each job, -1 if none was
 	told []int
 }
 
@@ -78,6 +78,69 @@ func (w *world) pass() {
 		}
 	}
 	w.settle()
+}
+
+func (w *world) finish(t *testing.T, id int, ok bool) api.Errno {
+	t.Helper()
+	want := api.OK
+	switch {
+	case id < 0 || id >= len(w.jobs):
+		want = api.ErrJob
+	case w.jobs[id].State != api.Running:
+		want = api.ErrState
+	case ok:
+		w.ended(id, api.Done)
+	default:
+		w.ended(id, api.Failed)
+	}
+	err := w.s.Finish(id, ok)
+	if err != want {
+		t.Errorf("at %d: Finish(%d, %t) = %d, want %d", w.now, id, ok, err, want)
+	}
+	w.check(t)
+	return err
+}
+
+func (w *world) cancel(t *testing.T, id int) api.Errno {
+	t.Helper()
+	want := api.OK
+	switch {
+	case id < 0 || id >= len(w.jobs):
+		want = api.ErrJob
+	case slices.Contains([]int{api.Done, api.Failed, api.Cancelled, api.Never}, w.jobs[id].State):
+		want = api.ErrState
+	default:
+		if at := slices.Index(w.queue, id); at >= 0 {
+			w.queue = slices.Delete(w.queue, at, at+1)
+			w.jobs[id].Start = -1
+		}
+		w.ended(id, api.Cancelled)
+	}
+	err := w.s.Cancel(id)
+	if err != want {
+		t.Errorf("at %d: Cancel(%d) = %d, want %d", w.now, id, err, want)
+	}
+	w.check(t)
+	return err
+}
+
+func (w *world) ended(id, state int) {
+	w.jobs[id].State, w.jobs[id].End = state, w.now
+	w.settle()
+}
+
+func (w *world) mustFinish(t *testing.T, id int, ok bool) {
+	t.Helper()
+	if err := w.finish(t, id, ok); err != api.OK {
+		t.Fatalf("at %d: Finish(%d, %t) = %d", w.now, id, ok, err)
+	}
+}
+
+func (w *world) mustCancel(t *testing.T, id int) {
+	t.Helper()
+	if err := w.cancel(t, id); err != api.OK {
+		t.Fatalf("at %d: Cancel(%d) = %d", w.now, id, err)
+	}
 }
 
 func (w *world) settle() {
@@ -185,6 +248,9 @@ func (w *world) checkStarts(t *testing.T) {
 		if got.Start > w.told[id] {
 			t.Errorf("at %d: job %d is made later than %d: %+v", w.now, id, w.told[id], got)
 		}
+		if got.State == api.Queued {
+			w.told[id] = got.Start
+		}
 		if got.State == api.Queued && got.Start != w.earliest(id) {
 			t.Errorf("at %d: job %d fits at %d: %+v", w.now, id, w.earliest(id), got)
 		}
@@ -244,6 +310,19 @@ func (w *world) runOut(t *testing.T) {
 	}
 }
 
+// startsAre compares the starts of all jobs with what a test names.
+func (w *world) startsAre(t *testing.T, starts ...int) {
+	t.Helper()
+	var got []int
+	for id := range w.jobs {
+		status, _ := w.s.Status(id)
+		got = append(got, status.Start)
+	}
+	if !slices.Equal(got, starts) {
+		t.Errorf("at %d: starts %v, want %v", w.now, got, starts)
+	}
+}
+
 func TestP11P12ManyWorlds(t *testing.T) {
 	rng := rand.New(rand.NewSource(3))
 	seen := make([]int, 7)
@@ -273,5 +352,102 @@ func TestP11P12ManyWorlds(t *testing.T) {
 	}
 	if longest < 10 {
 		t.Errorf("at most %d jobs in a queue", longest)
+	}
+}
+
+// someJob tells a number of a job, mostly of one that is not at an end, and
+// now and then of none.
+func (w *world) someJob(rng *rand.Rand) int {
+	id := 0
+	for range 4 {
+		id = rng.Intn(len(w.jobs)+3) - 1
+		if id >= 0 && id < len(w.jobs) && w.jobs[id].State < api.Done {
+			return id
+		}
+	}
+	return id
+}
+
+// endSome finishes or cancels a job.
+func (w *world) endSome(t *testing.T, rng *rand.Rand) api.Errno {
+	t.Helper()
+	if rng.Intn(3) == 0 {
+		return w.cancel(t, w.someJob(rng))
+	}
+	return w.finish(t, w.someJob(rng), rng.Intn(3) > 0)
+}
+
+func TestP11P13ManyWorlds(t *testing.T) {
+	rng := rand.New(rand.NewSource(4))
+	states := make([]int, 7)
+	errs := map[api.Errno]int{}
+	earlier := 0
+	for range 1000 {
+		w := newWorld(t, 3+rng.Intn(6))
+		for range 40 {
+			before := slices.Clone(w.jobs)
+			switch rng.Intn(5) {
+			case 0, 1:
+				w.submit(t, randomBatch(rng))
+			case 2:
+				w.tick(t, 1+min(rng.Intn(6), rng.Intn(6)))
+			default:
+				errs[w.endSome(t, rng)]++
+			}
+			for id, j := range w.jobs {
+				states[j.State]++
+				if id < len(before) && j.Start >= 0 && j.Start < before[id].Start {
+					earlier++
+				}
+			}
+		}
+		w.runOut(t)
+		if t.Failed() {
+			return
+		}
+	}
+	for state, n := range states {
+		if n < 2000 {
+			t.Errorf("state %d only %d times", state, n)
+		}
+	}
+	for _, err := range []api.Errno{api.OK, api.ErrJob, api.ErrState} {
+		if errs[err] < 1000 {
+			t.Errorf("error %d only %d times", err, errs[err])
+		}
+	}
+	if earlier < 1000 {
+		t.Errorf("only %d times a queued job moved up", earlier)
+	}
+}
+
+// Whatever is finished or cancelled meanwhile, all jobs are at an end after
+// the sum of the times that they had at first.
+func TestP14AllEndWhateverIsEnded(t *testing.T) {
+	rng := rand.New(rand.NewSource(6))
+	ended := 0
+	for range 600 {
+		w := newWorld(t, 5+rng.Intn(4))
+		for range 30 {
+			w.submit(t, randomBatch(rng))
+		}
+		often := 1 + rng.Intn(12)
+		for range w.rest() {
+			if rng.Intn(often) == 0 && w.endSome(t, rng) == api.OK {
+				ended++
+			}
+			w.tick(t, 1)
+		}
+		for id := range w.jobs {
+			if got, _ := w.s.Status(id); got.State < api.Done {
+				t.Errorf("at %d: job %d is not at an end: %+v", w.now, id, got)
+			}
+		}
+		if t.Failed() {
+			return
+		}
+	}
+	if ended < 1000 {
+		t.Errorf("only %d jobs were ended", ended)
 	}
 }

@@ -44,6 +44,11 @@ func (p *Pool) Count() int {
 	return len(p.jobs)
 }
 
+// has tells whether there is a job of this number.
+func (p *Pool) has(id int) bool {
+	return id >= 0 && id < len(p.jobs)
+}
+
 // Free tells how many nodes no running job has.
 func (p *Pool) Free() int {
 	free := p.nodes
@@ -57,7 +62,7 @@ func (p *Pool) Free() int {
 
 // Code tells by which code a job is decided.
 func (p *Pool) Code(id int) (string, api.Errno) {
-	if id < 0 || id >= len(p.jobs) {
+	if !p.has(id) {
 		return "", api.ErrJob
 	}
 	return p.jobs[id].code, api.OK
@@ -65,7 +70,7 @@ func (p *Pool) Code(id int) (string, api.Errno) {
 
 // Status tells how a job is.
 func (p *Pool) Status(id int) (api.Status, api.Errno) {
-	if id < 0 || id >= len(p.jobs) {
+	if !p.has(id) {
 		return api.Status{}, api.ErrJob
 	}
 	return p.jobs[id].status, api.OK
@@ -94,10 +99,4 @@ func (p *Pool) Pass() {
 // over tells when a job that has a start has had its time.
 func (j job) over() int {
 	return j.status.Start + j.status.Time
-}
-
-// end brings a job to an end now.
-func (p *Pool) end(id, state int) {
-	p.jobs[id].status.State = state
-	p.jobs[id].status.End = p.now
 }

@@ -47,8 +47,7 @@ func TestP11MoveUp(t *testing.T) {
 		if got := starts(&p); !slices.Equal(got, c.before) {
 			t.Errorf("%s: starts %v, want %v", c.what, got, c.before)
 		}
-		p.end(c.ended, api.Done)
-		p.Settle()
+		p.Finish(c.ended, true)
 		if got := starts(&p); !slices.Equal(got, c.after) {
 			t.Errorf("%s: then starts %v, want %v", c.what, got, c.after)
 		}
@@ -80,8 +79,7 @@ func TestP11QueuedGoAhead(t *testing.T) {
 	if got := starts(&p); !slices.Equal(got, []int{7, 0, 1, 4, -1}) {
 		t.Fatalf("starts %v", got)
 	}
-	p.end(2, api.Failed)
-	p.Settle()
+	p.Finish(2, false)
 	if got := starts(&p); !slices.Equal(got, []int{5, 0, 1, 2, 6}) || !slices.Equal(p.Queue(), []int{0, 4}) {
 		t.Errorf("starts %v, queue %v", got, p.Queue())
 	}
